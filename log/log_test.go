@@ -9,10 +9,9 @@ import (
 
 	"scorebook/api"
 	"scorebook/delivery"
-	"scorebook/event"
 	"scorebook/log"
 	"scorebook/match"
-	"scorebook/rules"
+	"scorebook/samples"
 )
 
 // short are rules of a match of one over between sides of 2.
@@ -31,34 +30,6 @@ func long() api.Rules {
 }
 
 func ruleSets() []api.Rules { return []api.Rules{short(), limited(), long()} }
-
-// badRules returns rules with each error that rules may have.
-func badRules(t *testing.T) map[api.Errno]api.Rules {
-	t.Helper()
-	nameless, small, odd, tight, many, order := limited(), limited(), limited(), limited(), limited(), limited()
-	nameless.Name, small.Side, odd.FollowOn, tight.Overs = "", 1, 9, 90
-	many.Power = make([]api.Phase, 9)
-	order.Power = []api.Phase{{From: 2, To: 2}, {From: 1, To: 1}}
-	bad := map[api.Errno]api.Rules{
-		api.ErrName: nameless, api.ErrRange: small, api.ErrArg: odd, api.ErrConflict: tight, api.ErrLimit: many, api.ErrOrder: order,
-	}
-	for e, r := range bad {
-		if rules.Check(r) != e {
-			t.Fatalf("%+v has not the error %d", r, e)
-		}
-	}
-	return bad
-}
-
-// parse returns the log of a text.
-func parse(t *testing.T, src string) []api.Event {
-	t.Helper()
-	l, diags := event.ParseLog(src)
-	if len(diags) > 0 {
-		t.Fatal(diags)
-	}
-	return l
-}
 
 // replay does what the document says of Replay: it returns the state at the beginning and after each accepted event, the index of the refused one, and the law.
 func replay(t *testing.T, r api.Rules, l []api.Event) (states []api.Match, refused int, law api.Law) {
@@ -81,57 +52,6 @@ func replay(t *testing.T, r api.Rules, l []api.Event) (states []api.Match, refus
 	return states, -1, api.Legal
 }
 
-// randomEvent returns an event that often fits a state.
-func randomEvent(s *rand.Rand, m api.Match) api.Event {
-	player := 1 + s.Intn(m.Rules.Side)
-	e := api.Event{Kind: api.BallEvent}
-	switch m.Stage {
-	case api.BeforeToss:
-		return api.Event{Kind: api.TossEvent, Side: 1 + s.Intn(2), Yes: s.Intn(2) == 0}
-	case api.BeforeInnings:
-		return api.Event{Kind: api.OpenEvent, Player: player, Other: 1 + s.Intn(m.Rules.Side)}
-	case api.Choice:
-		return api.Event{Kind: api.FollowEvent, Side: m.First, Yes: s.Intn(2) == 0}
-	}
-	kinds := []api.Kind{api.BowlEvent, api.EnterEvent, api.KeeperEvent, api.RetireEvent, api.SubEvent, api.FieldEvent, api.ReviewEvent, api.PenaltyEvent, api.NewBallEvent}
-	if s.Intn(3) == 0 {
-		e.Kind = kinds[s.Intn(len(kinds))]
-	}
-	switch e.Kind {
-	case api.BallEvent:
-		lines := []string{".", "1", "2", "3", "F", "S", "w", "n1", "b2", "l1", "w1", "n", "./B1", "./L1", "1/R2(1)", "./C1(2)", "n/R1(2)"}
-		e, _ = event.Parse("BALL " + lines[s.Intn(len(lines))])
-	case api.BowlEvent, api.KeeperEvent:
-		e.Player = player
-	case api.EnterEvent, api.RetireEvent, api.SubEvent:
-		e.Player, e.Yes = player, s.Intn(6) == 0
-	case api.ReviewEvent, api.PenaltyEvent:
-		e.Side = 1 + s.Intn(2)
-		if e.Kind == api.PenaltyEvent {
-			e.Runs = 5
-		}
-	}
-	return e
-}
-
-// randomLog returns a log of accepted events.
-func randomLog(t *testing.T, s *rand.Rand, r api.Rules, tries int) []api.Event {
-	t.Helper()
-	m, bad := match.New(r)
-	if bad != api.OK {
-		t.Fatal(bad)
-	}
-	var l []api.Event
-	for range tries {
-		e := randomEvent(s, m)
-		next, law := match.Step(m, e)
-		if law == api.Legal {
-			m, l = next, append(l, e)
-		}
-	}
-	return l
-}
-
 // spoiled returns a log with another event somewhere, which may be refused.
 func spoiled(s *rand.Rand, l []api.Event) []api.Event {
 	odd := []api.Event{
@@ -142,12 +62,11 @@ func spoiled(s *rand.Rand, l []api.Event) []api.Event {
 }
 
 // forEachLog calls f with random logs, of which about half have an event that does not belong there.
-func forEachLog(t *testing.T, seed int64, f func(r api.Rules, l []api.Event)) {
-	t.Helper()
+func forEachLog(seed int64, f func(r api.Rules, l []api.Event)) {
 	s := rand.New(rand.NewSource(seed))
 	for range 60 {
 		for _, r := range ruleSets() {
-			l := randomLog(t, s, r, s.Intn(600))
+			l := samples.Play(s.Intn, r, s.Intn(600))
 			if s.Intn(2) == 0 {
 				l = spoiled(s, l)
 			}
@@ -160,7 +79,7 @@ func forEachLog(t *testing.T, seed int64, f func(r api.Rules, l []api.Event)) {
 
 func TestReplay(t *testing.T) {
 	laws, stages := map[api.Law]int{}, map[api.Stage]int{}
-	forEachLog(t, 1, func(r api.Rules, l []api.Event) {
+	forEachLog(1, func(r api.Rules, l []api.Event) {
 		states, wantAt, wantLaw := replay(t, r, l)
 		want := states[len(states)-1]
 		m, at, law := log.Replay(r, l)
@@ -191,7 +110,7 @@ func TestReplayTells(t *testing.T) {
 		{won + "BALL .\nSTOP\n", 11, api.LawEnded, "1 1/1 0.2; 2 5/0 0.1; SIDE 2 WON BY 1 WICKETS"},
 		{"TOSS 2 FIELD\nSTOP\nSTOP\n", 2, api.LawEnded, "NO RESULT"},
 	} {
-		m, at, law := log.Replay(short(), parse(t, x.src))
+		m, at, law := log.Replay(short(), samples.Log(x.src))
 		if at != x.at || law != x.law || match.Text(m) != x.text {
 			t.Errorf("%q: %q, refused %d by law %d", x.src, match.Text(m), at, law)
 		}
@@ -207,18 +126,8 @@ func TestReplayOfNothing(t *testing.T) {
 	}
 }
 
-// wides returns a log of n events: the beginning of an innings, and then wides.
-func wides(t *testing.T, n int) []api.Event {
-	t.Helper()
-	l := parse(t, "TOSS 1 BAT\nOPEN 1 2\nKEEPER 2\nBOWL 1\n")
-	for len(l) < n {
-		l = append(l, api.Event{Kind: api.BallEvent, Ball: api.Delivery{Type: api.WideBall}})
-	}
-	return l
-}
-
 func TestReplayStopsAtTheLimit(t *testing.T) {
-	l := wides(t, api.MaxEvents)
+	l := samples.Wides(api.MaxEvents)
 	full, at, law := log.Replay(long(), l)
 	if at != -1 || law != api.Legal || full.Innings[0].Runs != api.MaxEvents-4 {
 		t.Fatalf("%d events: refused %d by law %d, %d runs", len(l), at, law, full.Innings[0].Runs)
@@ -239,10 +148,10 @@ func TestReplayStopsAtTheLimit(t *testing.T) {
 }
 
 func TestReplayWithBadRules(t *testing.T) {
-	bad := badRules(t)
+	bad := samples.Bad()
 	bad[-1] = api.Rules{}
 	for _, r := range bad {
-		for _, l := range [][]api.Event{nil, parse(t, "TOSS 1 BAT\nOPEN 1 2\n"), make([]api.Event, api.MaxEvents+1)} {
+		for _, l := range [][]api.Event{nil, samples.Log("TOSS 1 BAT\nOPEN 1 2\n"), make([]api.Event, api.MaxEvents+1)} {
 			m, at, law := log.Replay(r, l)
 			if !reflect.DeepEqual(m, api.Match{}) || at != 0 || law != api.LawPhase {
 				t.Errorf("%+v, %d events: %+v, refused %d by law %d", r, len(l), m, at, law)
@@ -262,7 +171,7 @@ func TestReplayWithBadRules(t *testing.T) {
 
 func TestAt(t *testing.T) {
 	met := map[api.Errno]int{}
-	forEachLog(t, 2, func(r api.Rules, l []api.Event) {
+	forEachLog(2, func(r api.Rules, l []api.Event) {
 		states, _, _ := replay(t, r, l)
 		for n := -1; n <= len(l)+1; n++ {
 			want, wantErr := api.Match{}, api.OK
@@ -290,8 +199,8 @@ func TestAt(t *testing.T) {
 }
 
 func TestAtErrors(t *testing.T) {
-	refused := parse(t, "TOSS 1 BAT\nBALL .\n")
-	many := wides(t, api.MaxEvents+2)
+	refused := samples.Log("TOSS 1 BAT\nBALL .\n")
+	many := samples.Wides(api.MaxEvents + 2)
 	for _, x := range []struct {
 		name string
 		l    []api.Event
@@ -316,7 +225,7 @@ func TestAtErrors(t *testing.T) {
 		}
 	}
 	// The rules are checked first, then the range.
-	for want, r := range badRules(t) {
+	for want, r := range samples.Bad() {
 		for _, n := range []int{-1, 0, 1, 2, 3} {
 			if m, e := log.At(r, refused, n); e != want || !reflect.DeepEqual(m, api.Match{}) {
 				t.Errorf("%+v, %d events: %+v, %d", r, n, m, e)
@@ -329,7 +238,7 @@ func TestAtErrors(t *testing.T) {
 
 func TestCheck(t *testing.T) {
 	met := map[api.Errno]int{}
-	forEachLog(t, 3, func(r api.Rules, l []api.Event) {
+	forEachLog(3, func(r api.Rules, l []api.Event) {
 		_, at, _ := replay(t, r, l)
 		want := api.OK
 		if at >= 0 {
@@ -346,7 +255,7 @@ func TestCheck(t *testing.T) {
 }
 
 func TestCheckErrors(t *testing.T) {
-	refused := parse(t, "TOSS 1 BAT\nBALL .\n")
+	refused := samples.Log("TOSS 1 BAT\nBALL .\n")
 	for _, x := range []struct {
 		name string
 		l    []api.Event
@@ -355,8 +264,8 @@ func TestCheckErrors(t *testing.T) {
 		{"no events", nil, api.OK},
 		{"a refused one", refused, api.ErrLaw},
 		{"an event that is none", []api.Event{{}}, api.ErrLaw},
-		{"as many as there may be", wides(t, api.MaxEvents), api.OK},
-		{"too many", wides(t, api.MaxEvents+1), api.ErrLimit},
+		{"as many as there may be", samples.Wides(api.MaxEvents), api.OK},
+		{"too many", samples.Wides(api.MaxEvents + 1), api.ErrLimit},
 		{"too many, of which the first is refused", make([]api.Event, api.MaxEvents+1), api.ErrLimit},
 		{"as many as there may be, of which the first is refused", make([]api.Event, api.MaxEvents), api.ErrLaw},
 	} {
@@ -364,7 +273,7 @@ func TestCheckErrors(t *testing.T) {
 			t.Errorf("%s: %d, want %d", x.name, e, x.want)
 		}
 	}
-	for want, r := range badRules(t) {
+	for want, r := range samples.Bad() {
 		for _, l := range [][]api.Event{nil, refused, make([]api.Event, api.MaxEvents+1)} {
 			if e := log.Check(r, l); e != want {
 				t.Errorf("%+v, %d events: %d", r, len(l), e)
@@ -395,7 +304,7 @@ func deliveries(r api.Rules, l []api.Event, states []api.Match) []api.Delivered 
 
 func TestPlay(t *testing.T) {
 	met := map[string]int{}
-	forEachLog(t, 4, func(r api.Rules, l []api.Event) {
+	forEachLog(4, func(r api.Rules, l []api.Event) {
 		states, wantAt, wantLaw := replay(t, r, l)
 		want := deliveries(r, l, states)
 		p, m, at, law := log.Play(r, l)
@@ -425,7 +334,7 @@ func count(met map[string]int, holds map[string]bool) {
 
 func TestPlayTells(t *testing.T) {
 	r := limited()
-	l := parse(t, "TOSS 2 FIELD\nOPEN 1 2\nKEEPER 3\nBOWL 1\nBALL n1\nFIELD 0\nBALL w\nBALL 2\nBALL 1\nBALL .\nBALL ./B1\nREVIEW 1 LOST\nENTER 3\nBOWL 2\nBALL F\nBALL ./C1(1)\nOPEN 2 3\nKEEPER 1\nBOWL 2\nBALL b2\nBALL .\nSTOP\nBALL .\n")
+	l := samples.Log("TOSS 2 FIELD\nOPEN 1 2\nKEEPER 3\nBOWL 1\nBALL n1\nFIELD 0\nBALL w\nBALL 2\nBALL 1\nBALL .\nBALL ./B1\nREVIEW 1 LOST\nENTER 3\nBOWL 2\nBALL F\nBALL ./C1(1)\nOPEN 2 3\nKEEPER 1\nBOWL 2\nBALL b2\nBALL .\nSTOP\nBALL .\n")
 	p, m, at, law := log.Play(r, l)
 	want := []struct {
 		event, innings, over, ball, bowler, striker, partner int
@@ -460,14 +369,14 @@ func TestPlayTells(t *testing.T) {
 		t.Errorf("%q, refused %d by law %d", match.Text(m), at, law)
 	}
 	// The example of the document.
-	p, _, at, law = log.Play(short(), parse(t, "TOSS 1 BAT\nOPEN 1 2\nKEEPER 2\nBOWL 1\nBALL 1\n"))
+	p, _, at, law = log.Play(short(), samples.Log("TOSS 1 BAT\nOPEN 1 2\nKEEPER 2\nBOWL 1\nBALL 1\n"))
 	if at != -1 || law != api.Legal || len(p) != 1 || p[0].Event != 4 || p[0].Bowler != 1 || p[0].Striker != 1 || p[0].Partner != 2 || p[0].Runs != 1 {
 		t.Errorf("%+v, refused %d by law %d", p, at, law)
 	}
 }
 
 func TestBalls(t *testing.T) {
-	forEachLog(t, 5, func(r api.Rules, l []api.Event) {
+	forEachLog(5, func(r api.Rules, l []api.Event) {
 		states, _, _ := replay(t, r, l)
 		var want []api.Delivery
 		for _, e := range l[:len(states)-1] {
@@ -479,7 +388,7 @@ func TestBalls(t *testing.T) {
 			t.Fatalf("%s, %+v: %+v", r.Name, l, b)
 		}
 	})
-	if b := log.Balls(long(), wides(t, api.MaxEvents+9)); len(b) != api.MaxEvents-4 {
+	if b := log.Balls(long(), samples.Wides(api.MaxEvents+9)); len(b) != api.MaxEvents-4 {
 		t.Errorf("%d balls of a log that is too long", len(b))
 	}
 }
@@ -487,7 +396,7 @@ func TestBalls(t *testing.T) {
 // P17.5
 
 func TestAcceptedPart(t *testing.T) {
-	forEachLog(t, 6, func(r api.Rules, l []api.Event) {
+	forEachLog(6, func(r api.Rules, l []api.Event) {
 		m, at, _ := log.Replay(r, l)
 		if at < 0 {
 			at = len(l)
@@ -512,7 +421,7 @@ func TestAcceptedPart(t *testing.T) {
 func TestMemory(t *testing.T) {
 	r := limited()
 	r.Power = append(r.Power, api.Phase{From: 77})[:1]
-	l := append(parse(t, "TOSS 1 BAT\nOPEN 1 2\nKEEPER 3\nBOWL 1\nBALL 1\nBALL w\n"), api.Event{Kind: 77}, api.Event{Kind: 78})
+	l := append(samples.Log("TOSS 1 BAT\nOPEN 1 2\nKEEPER 3\nBOWL 1\nBALL 1\nBALL w\n"), api.Event{Kind: 77}, api.Event{Kind: 78})
 	marks := slices.Clone(l)
 	for _, n := range []int{0, 1, 2, 6, 7} {
 		short := l[:n]

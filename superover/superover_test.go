@@ -9,44 +9,16 @@ import (
 	"testing"
 
 	"scorebook/api"
-	"scorebook/event"
 	"scorebook/log"
 	"scorebook/match"
 	"scorebook/rules"
+	"scorebook/samples"
 	"scorebook/superover"
 )
 
 // two are rules of a match between sides of 2, which are those of a super over but for the name, the overs and the powerplay.
 func two() api.Rules {
 	return api.Rules{Name: "TWO", Side: 2, Innings: 1, Overs: 2, Balls: 4, Quota: 1, Wide: 1, NoBall: 1, Power: []api.Phase{{From: 1, To: 1, Outside: 0}}}
-}
-
-// badRules returns rules with errors, by the error.
-func badRules(t *testing.T) map[api.Errno]api.Rules {
-	t.Helper()
-	nameless, small, odd, tight, many, order := two(), two(), two(), two(), two(), two()
-	nameless.Name, small.Side, odd.FollowOn, tight.Overs = "", 1, 9, 90
-	many.Power = make([]api.Phase, 9)
-	order.Power = []api.Phase{{From: 2, To: 2}, {From: 1, To: 1}}
-	bad := map[api.Errno]api.Rules{
-		api.ErrName: nameless, api.ErrRange: small, api.ErrArg: odd, api.ErrConflict: tight, api.ErrLimit: many, api.ErrOrder: order,
-	}
-	for e, r := range bad {
-		if rules.Check(r) != e {
-			t.Fatalf("%+v has not the error %d", r, e)
-		}
-	}
-	return bad
-}
-
-// parse returns the log of a text.
-func parse(t *testing.T, src string) []api.Event {
-	t.Helper()
-	l, diags := event.ParseLog(src)
-	if len(diags) > 0 {
-		t.Fatal(diags)
-	}
-	return l
 }
 
 // innings returns the lines of an innings of a side of 2 with some balls.
@@ -92,7 +64,7 @@ func TestRules(t *testing.T) {
 			t.Errorf("Rules(%+v) = %+v, %d", r, again, e)
 		}
 	}
-	for want, r := range badRules(t) {
+	for want, r := range samples.Bad() {
 		if got, e := superover.Rules(r); e != want || !reflect.DeepEqual(got, api.Rules{}) {
 			t.Errorf("Rules(%+v) = %+v, %d", r, got, e)
 		}
@@ -104,7 +76,7 @@ func TestRules(t *testing.T) {
 // ended returns the state at the end of a match.
 func ended(t *testing.T, r api.Rules, src string) api.Match {
 	t.Helper()
-	m, at, law := log.Replay(r, parse(t, src))
+	m, at, law := log.Replay(r, samples.Log(src))
 	if at != -1 || law != api.Legal || m.Stage != api.Finished {
 		t.Fatalf("%q: refused %d by law %d, stage %d", src, at, law, m.Stage)
 	}
@@ -226,7 +198,7 @@ func randomLog(t *testing.T, s *rand.Rand) []api.Event {
 			}
 		}
 	}
-	return parse(t, b.String())
+	return samples.Log(b.String())
 }
 
 func TestReplay(t *testing.T) {
@@ -288,7 +260,7 @@ func TestReplayTells(t *testing.T) {
 		// There is no powerplay in which nobody may be outside the circle.
 		{three, 1, "OPEN 1 2\nKEEPER 2\nFIELD 1\nBOWL 1\nBALL .\n", -1, api.Legal, "1 0/0 0.1"},
 	} {
-		m, at, law := superover.Replay(x.r, x.first, parse(t, x.src))
+		m, at, law := superover.Replay(x.r, x.first, samples.Log(x.src))
 		if at != x.at || law != x.law || match.Text(m) != x.text {
 			t.Errorf("%q: %q, refused %d by law %d", x.src, match.Text(m), at, law)
 		}
@@ -296,7 +268,7 @@ func TestReplayTells(t *testing.T) {
 }
 
 func TestReplayErrors(t *testing.T) {
-	l := parse(t, tied)
+	l := samples.Log(tied)
 	check := func(r api.Rules, first int, l []api.Event) {
 		t.Helper()
 		if m, at, law := superover.Replay(r, first, l); !reflect.DeepEqual(m, api.Match{}) || at != 0 || law != api.LawPhase {
@@ -307,14 +279,14 @@ func TestReplayErrors(t *testing.T) {
 		check(two(), first, l)
 		check(two(), first, nil)
 	}
-	for _, r := range badRules(t) {
+	for _, r := range samples.Bad() {
 		check(r, 1, l)
 		check(r, 3, nil)
 	}
 }
 
 func TestReplayStopsAtTheLimit(t *testing.T) {
-	l := parse(t, innings("w"))
+	l := samples.Log(innings("w"))
 	for len(l) < api.MaxEvents+2 {
 		l = append(l, l[3])
 	}
@@ -365,14 +337,14 @@ func logsOf(t *testing.T, texts ...string) [][]api.Event {
 	t.Helper()
 	var l [][]api.Event
 	for _, src := range texts {
-		l = append(l, parse(t, src))
+		l = append(l, samples.Log(src))
 	}
 	return l
 }
 
 func TestDecide(t *testing.T) {
 	s := rand.New(rand.NewSource(2))
-	bad := badRules(t)
+	bad := samples.Bad()
 	texts := []string{tied, tied, tied, tied, tied, tied, tiedOnRuns, tiedOnRuns, firstWins, secondWins, unfinished, stopped, refused, ""}
 	met, winners, most := map[api.Errno]int{}, map[int]int{}, 0
 	for range 3000 {
@@ -452,7 +424,7 @@ func TestDecideTells(t *testing.T) {
 			t.Errorf("%s: %d, %d, %d", x.name, winner, used, e)
 		}
 	}
-	for want, r := range badRules(t) {
+	for want, r := range samples.Bad() {
 		for _, first := range []int{0, 1} {
 			if winner, used, e := superover.Decide(r, first, make([][]api.Event, 9)); winner != 0 || used != 0 || e != want {
 				t.Errorf("%+v: %d, %d, %d", r, winner, used, e)
