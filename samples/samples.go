@@ -58,6 +58,14 @@ func Wides(n int) []api.Event {
 	return l
 }
 
+// Faulty returns logs with each error that a log of rules without one may have, by the error.
+func Faulty() map[api.Errno][][]api.Event {
+	return map[api.Errno][][]api.Event{
+		api.ErrLaw:   {Log("OPEN 1 2\n"), Log("TOSS 1 BAT\nOPEN 1 2\nBALL .\n"), {{}}, make([]api.Event, api.MaxEvents)},
+		api.ErrLimit: {Wides(api.MaxEvents + 1), make([]api.Event, api.MaxEvents+1)},
+	}
+}
+
 // Symbols returns symbols of deliveries that are legal in many states.
 func Symbols() []string {
 	return []string{

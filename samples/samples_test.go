@@ -56,6 +56,16 @@ func TestWides(t *testing.T) {
 	}
 }
 
+func TestFaulty(t *testing.T) {
+	for want, logs := range samples.Faulty() {
+		for _, l := range logs {
+			if e := log.Check(samples.Long(), l); e != want {
+				t.Errorf("%d events with the error %d, want %d", len(l), e, want)
+			}
+		}
+	}
+}
+
 func TestSymbols(t *testing.T) {
 	for _, s := range samples.Symbols() {
 		if d, e := notation.Parse(s); e != api.OK || delivery.Legal(d) != api.Legal {

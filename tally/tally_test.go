@@ -299,32 +299,16 @@ func TestTotalsTells(t *testing.T) {
 	}
 }
 
-// faults returns logs with their errors, for rules that have none.
-func faults() []struct {
-	l []api.Event
-	e api.Errno
-} {
-	return []struct {
-		l []api.Event
-		e api.Errno
-	}{
-		{samples.Log("OPEN 1 2\n"), api.ErrLaw},
-		{samples.Log("TOSS 1 BAT\nOPEN 1 2\nBALL .\n"), api.ErrLaw},
-		{[]api.Event{{}}, api.ErrLaw},
-		{make([]api.Event, api.MaxEvents), api.ErrLaw},
-		{make([]api.Event, api.MaxEvents+1), api.ErrLimit},
-		{samples.Wides(api.MaxEvents + 1), api.ErrLimit},
-	}
-}
-
 func TestTotalsErrors(t *testing.T) {
-	for _, x := range faults() {
-		if got, e := tally.Totals(samples.Long(), x.l); e != x.e || len(got) != 0 {
-			t.Errorf("%d events: %+v, %d, want %d", len(x.l), got, e, x.e)
-		}
-		for want, r := range samples.Bad() {
-			if got, e := tally.Totals(r, x.l); e != want || len(got) != 0 {
-				t.Errorf("%+v, %d events: %+v, %d", r, len(x.l), got, e)
+	for wantLog, logs := range samples.Faulty() {
+		for _, l := range logs {
+			if got, e := tally.Totals(samples.Long(), l); e != wantLog || len(got) != 0 {
+				t.Errorf("%d events: %+v, %d, want %d", len(l), got, e, wantLog)
+			}
+			for want, r := range samples.Bad() {
+				if got, e := tally.Totals(r, l); e != want || len(got) != 0 {
+					t.Errorf("%+v, %d events: %+v, %d", r, len(l), got, e)
+				}
 			}
 		}
 	}
@@ -437,9 +421,11 @@ func TestPartiesErrors(t *testing.T) {
 		if c, e := tally.Parties(samples.Long(), nil, i); c != (api.Credit{}) || e != api.ErrRange {
 			t.Errorf("innings %d of no events: %+v, %d", i, c, e)
 		}
-		for _, x := range faults() {
-			if c, e := tally.Parties(samples.Long(), x.l, i); c != (api.Credit{}) || e != x.e {
-				t.Errorf("innings %d of %d events: %+v, %d, want %d", i, len(x.l), c, e, x.e)
+		for want, logs := range samples.Faulty() {
+			for _, l := range logs {
+				if c, e := tally.Parties(samples.Long(), l, i); c != (api.Credit{}) || e != want {
+					t.Errorf("innings %d of %d events: %+v, %d, want %d", i, len(l), c, e, want)
+				}
 			}
 		}
 		for want, r := range samples.Bad() {
