@@ -20,6 +20,11 @@ func Long() api.Rules {
 	return api.Rules{Name: "LONG", Side: 4, Innings: 2, Balls: 5, Wide: 1, NoBall: 4, NewBall: 1, FollowOn: 3, Reviews: 2}
 }
 
+// Big returns rules of a match with sides of eleven players and without free hits, in which wickets often fall in succession.
+func Big() api.Rules {
+	return api.Rules{Name: "BIG", Side: 11, Innings: 2, Balls: 4, Wide: 1, NoBall: 2, NewBall: 2, FollowOn: 1, Reviews: 1}
+}
+
 // Bad returns rules with each error that rules may have, by the error.
 func Bad() map[api.Errno]api.Rules {
 	nameless, small, odd, tight, many, order := Limited(), Limited(), Limited(), Limited(), Limited(), Limited()

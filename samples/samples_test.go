@@ -15,7 +15,7 @@ import (
 )
 
 func TestRules(t *testing.T) {
-	for _, r := range []api.Rules{samples.Limited(), samples.Long()} {
+	for _, r := range []api.Rules{samples.Limited(), samples.Long(), samples.Big()} {
 		if e := rules.Check(r); e != api.OK {
 			t.Errorf("%s has the error %d", r.Name, e)
 		}
